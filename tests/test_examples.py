@@ -1,0 +1,50 @@
+"""The examples of the interface, each with the value or the error that the document gives."""
+
+import unittest
+
+from scanpages.encoding import decode_volume, encode_volume
+from scanpages.edits import diff, normalized, patch
+from scanpages.errors import EncodingError
+from scanpages.octets import number_octets, octets_text, read_number
+from scanpages.versions import History, decode_history, encode_history
+from scanpages.volumes import gathered, removed, volume_fault
+
+
+class ExamplesTest(unittest.TestCase):
+
+    def test_octets(self):
+        self.assertEqual([172, 2], number_octets(300))
+        self.assertEqual((300, 3), read_number([7, 172, 2, 9], 1))
+        with self.assertRaises(EncodingError) as caught:
+            read_number([128, 0], 0)
+        self.assertEqual(1, caught.exception.position)
+        self.assertEqual("Hi\n", octets_text([72, 105, 10]))
+
+    def test_volumes(self):
+        volume = ("folder", (("a", ("text", "x")), ("b", ("table", ("k",), (("v", "w"),)))))
+        self.assertEqual(("b",), volume_fault(volume))
+        volume = ("folder", (("a", ("text", "x")), ("b", ("text", "y"))))
+        self.assertEqual(("folder", (("b", ("text", "y")),)), removed(volume, ("a",)))
+        expected = ("folder", (("a", ("text", "x")), ("b", ("folder", (("c", ("text", "y")),)))))
+        self.assertEqual(expected, gathered([(("b", "c"), ("text", "y")), (("a",), ("text", "x"))]))
+
+    def test_encoding(self):
+        self.assertEqual([3, 1, 1, 97, 1, 2, 104, 105], encode_volume(("folder", (("a", ("text", "hi")),))))
+        with self.assertRaises(EncodingError) as caught:
+            decode_volume([3, 2, 1, 98, 1, 0, 1, 97, 1, 0])
+        self.assertEqual(6, caught.exception.position)
+
+    def test_edits(self):
+        self.assertEqual([5, 1, 2, 8], patch([5, 6, 7, 8], [("keep", 1), ("drop", 2), ("add", (1, 2)), ("keep", 1)]))
+        self.assertEqual([("drop", 1), ("add", (1, 2)), ("keep", 2)],
+                         normalized([("add", (1,)), ("drop", 1), ("add", (2,)), ("keep", 1), ("keep", 1)]))
+        self.assertEqual([("keep", 1), ("drop", 1), ("keep", 1), ("add", (4,))], diff([1, 2, 3], [1, 3, 4]))
+
+    def test_versions(self):
+        history = History([1, 2])
+        history.record([1, 2, 3])
+        self.assertEqual((2, [1, 2, 3], [2, 2, 1, 2, 2, 0, 2, 2, 1, 3]),
+                         (len(history), history.version(1), encode_history(history)))
+        with self.assertRaises(EncodingError) as caught:
+            decode_history([2, 1, 7, 1, 2, 1, 9])
+        self.assertEqual(7, caught.exception.position)
