@@ -47,9 +47,8 @@ def _made_by(step):
 
 def _check_fit(script, length):
     """Checks that a script fits an old list of this length."""
-    taken = taken_items(script)
-    if taken != length:
-        raise InvalidScript(f"a script that takes {taken} items does not fit a list of {length}")
+    if taken_items(script) != length:
+        raise InvalidScript("the script takes more or fewer items than the list has")
 
 
 def normalized(script):
@@ -131,7 +130,7 @@ def _changes(old, new):
 
 
 def _is_gain(blocks, row, column):
-    """Tells whether the first column old items have more in common with the first row new ones than one less has."""
+    """Tells whether the last one of the first column old items makes the greatest common length grow in a row."""
     block, place = divmod(column - 1, BLOCK)
     return (blocks[block][row] >> place) & 1 == 0
 

@@ -18,7 +18,7 @@ BEHIND_PERCENT = "&'()*+,-./0123456789:;<=>?@ABCDEFGHIJKLMNOPQRSTUVWXYZ[\\]^_`ab
 def number_octets(number):
     """Returns the list of the octets of a number."""
     if not 0 <= number <= GREATEST_NUMBER:
-        raise InvalidNumber(f"{number} is not from 0 to {GREATEST_NUMBER}")
+        raise InvalidNumber(f"the number is not from 0 to {GREATEST_NUMBER}")
     octets = []
     rest = number
     while rest >= BASE:
@@ -70,7 +70,7 @@ def octets_text(octets):
 def _character(code):
     """Returns the character with a code."""
     if not is_text_code(code):
-        raise InvalidText(f"{code} is not the code of an allowed character")
+        raise InvalidText("an octet is not the code of an allowed character")
     if code == LINE_FEED:
         return "\n"
     if code < PERCENT:

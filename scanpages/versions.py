@@ -27,7 +27,7 @@ class History:
     def version(self, number):
         """Returns the list of the octets of a version."""
         if not 0 <= number < len(self):
-            raise NoSuchVersion(f"there is no version {number}")
+            raise NoSuchVersion("there is no version with this number")
         octets = list(self.first)
         for script in self.scripts[:number]:
             octets = patch(octets, script)

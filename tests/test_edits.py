@@ -85,6 +85,7 @@ class PatchTest(ProgramTest):
             ([1, 2], [("keep", 3)]),
             ([1, 2], [("keep", 1), ("drop", 2)]),
             ([1, 2], [("keep", 10 ** 12)]),
+            ([1, 2], [("drop", 10 ** 5000)]),
         ):
             with self.subTest(old=old, script=script):
                 self.raised(InvalidScript, patch, old, script)

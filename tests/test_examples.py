@@ -2,10 +2,15 @@
 
 import unittest
 
+from scanpages.assembly import assemble, disassemble
+from scanpages.compression import expand
 from scanpages.encoding import decode_volume, encode_volume
 from scanpages.edits import diff, normalized, patch
-from scanpages.errors import EncodingError
+from scanpages.errors import AssemblySyntaxError, EncodingError, PackedError
+from scanpages.field import multiply
+from scanpages.machine import run
 from scanpages.octets import number_octets, octets_text, read_number
+from scanpages.polynomials import divide, interpolate, multiply_polynomials
 from scanpages.versions import History, decode_history, encode_history
 from scanpages.volumes import gathered, removed, volume_fault
 
@@ -48,3 +53,28 @@ class ExamplesTest(unittest.TestCase):
         with self.assertRaises(EncodingError) as caught:
             decode_history([2, 1, 7, 1, 2, 1, 9])
         self.assertEqual(7, caught.exception.position)
+
+    def test_compression(self):
+        self.assertEqual([7, 8, 7, 8, 7, 8, 7, 9], expand([1, 7, 8, 130, 2, 0, 9], 100))
+        with self.assertRaises(PackedError) as caught:
+            expand([0, 7, 128, 2], 100)
+        self.assertEqual(3, caught.exception.position)
+
+    def test_machine(self):
+        result = run([7, 0, 3, 8, 0, 0, 10, 0, 0, 0, 0, 0], [5, 6], 100)
+        self.assertEqual(("done", (5, 6), 8), (result.word, result.output, result.steps))
+
+    def test_assembly(self):
+        self.assertEqual([7, 0, 3, 8, 0, 0, 10, 0, 0, 0, 0, 0],
+                         assemble("again: \n  read 0 end\nwrite 0\njump again\nend:\nhalt\n"))
+        self.assertEqual("L0:\nread 0 L2\njump L0\nL2:\nhalt\n", disassemble([7, 0, 2, 10, 0, 0, 0, 0, 0]))
+        with self.assertRaises(AssemblySyntaxError) as caught:
+            assemble("set 8 1\nhalt\n")
+        self.assertEqual(0, caught.exception.line)
+
+    def test_field(self):
+        self.assertEqual((1, 6, 10), (multiply(9, 2), multiply(7, 7), multiply(15, 15)))
+
+    def test_polynomials(self):
+        self.assertEqual(([2, 3, 1], ([2, 1], [])), (multiply_polynomials([1, 1], [2, 1]), divide([2, 3, 1], [1, 1])))
+        self.assertEqual([5], interpolate([(1, 5), (2, 5)]))

@@ -37,7 +37,7 @@ class NumbersTest(ProgramTest):
                 self.assertEqual(max(1, -(-number.bit_length() // 7)), len(octets))
 
     def test_refused(self):
-        for number in (-1, -128, -GREATEST, GREATEST + 1, 2 ** 36, 2 ** 80):
+        for number in (-1, -128, -GREATEST, GREATEST + 1, 2 ** 36, 2 ** 80, 10 ** 5000, -10 ** 5000):
             with self.subTest(number=number):
                 self.raised(InvalidNumber, number_octets, number)
 

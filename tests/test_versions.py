@@ -71,7 +71,7 @@ class HistoryTest(ProgramTest):
 
     def test_no_such_version(self):
         history = history_of([1], [2])
-        for number in (-1, -2, 2, 3, 100):
+        for number in (-1, -2, 2, 3, 100, 10 ** 5000):
             self.raised(NoSuchVersion, history.version, number)
 
     def test_changes_afterwards_change_nothing(self):
@@ -115,7 +115,7 @@ class ShortenTest(ProgramTest):
             self.assertEqual(scripts[count:], history.scripts)
 
     def test_refused(self):
-        for count in (-1, -4, 5, 6, 100):
+        for count in (-1, -4, 5, 6, 100, -10 ** 5000):
             self.raised(NoSuchVersion, self.history.shorten, count)
             self.check(self.history, self.versions)
 
