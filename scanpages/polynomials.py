@@ -1,7 +1,7 @@
 """Polynomials over the symbols, as lists of coefficients that begin with the one of x to the power 0."""
 
 from scanpages.errors import InvalidSymbol
-from scanpages.field import add, inverse, multiply
+from scanpages.field import PRODUCTS, inverse, multiply, scaled
 
 
 def reduced(poly):
@@ -17,7 +17,7 @@ def add_polynomials(first, second):
     longer, shorter = (first, second) if len(first) >= len(second) else (second, first)
     total = list(longer)
     for at, coefficient in enumerate(shorter):
-        total[at] = add(total[at], coefficient)
+        total[at] ^= coefficient
     return reduced(total)
 
 
@@ -25,16 +25,17 @@ def multiply_polynomials(first, second):
     """Returns the product of two polynomials."""
     product = [0] * (len(first) + len(second))
     for shift, factor in enumerate(first):
-        for at, coefficient in enumerate(second):
-            product[shift + at] = add(product[shift + at], multiply(factor, coefficient))
+        for at, coefficient in enumerate(scaled(second, factor), shift):
+            product[at] ^= coefficient
     return reduced(product)
 
 
 def evaluate(poly, point):
     """Returns the value of a polynomial at a point."""
+    products = PRODUCTS[point]
     value = 0
     for coefficient in poly[::-1]:
-        value = add(multiply(value, point), coefficient)
+        value = products[value] ^ coefficient
     return value
 
 
@@ -49,8 +50,8 @@ def divide(poly, divisor):
     for shift in range(len(poly) - len(lower), -1, -1):
         factor = multiply(rest[shift + len(lower) - 1], leading)
         quotient[shift] = factor
-        for at, coefficient in enumerate(lower):
-            rest[shift + at] = add(rest[shift + at], multiply(factor, coefficient))
+        for at, coefficient in enumerate(scaled(lower, factor), shift):
+            rest[at] ^= coefficient
     return reduced(quotient), reduced(rest)
 
 
@@ -63,7 +64,7 @@ def interpolate(points):
         growth = evaluate(zeros, point)
         if growth == 0:
             raise InvalidSymbol("a point stands twice")
-        missing = add(value, evaluate(poly, point))
-        poly = add_polynomials(poly, multiply_polynomials([multiply(missing, inverse(growth))], zeros))
+        missing = value ^ evaluate(poly, point)
+        poly = add_polynomials(poly, scaled(zeros, multiply(missing, inverse(growth))))
         zeros = multiply_polynomials(zeros, [point, 1])
     return poly

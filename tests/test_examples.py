@@ -3,14 +3,17 @@
 import unittest
 
 from scanpages.assembly import assemble, disassemble
+from scanpages.coding import corrected, encode
 from scanpages.compression import expand
 from scanpages.encoding import decode_volume, encode_volume
 from scanpages.edits import diff, normalized, patch
 from scanpages.errors import AssemblySyntaxError, EncodingError, PackedError
 from scanpages.field import multiply
+from scanpages.formats import Format
 from scanpages.machine import run
 from scanpages.octets import number_octets, octets_text, read_number
 from scanpages.polynomials import divide, interpolate, multiply_polynomials
+from scanpages.turns import combined, opposite, turned
 from scanpages.versions import History, decode_history, encode_history
 from scanpages.volumes import gathered, removed, volume_fault
 
@@ -78,3 +81,14 @@ class ExamplesTest(unittest.TestCase):
     def test_polynomials(self):
         self.assertEqual(([2, 3, 1], ([2, 1], [])), (multiply_polynomials([1, 1], [2, 1]), divide([2, 3, 1], [1, 1])))
         self.assertEqual([5], interpolate([(1, 5), (2, 5)]))
+
+    def test_coding(self):
+        self.assertEqual([3, 3, 3, 3, 3], encode([3, 3], 5))
+        self.assertEqual(([3, 3, 3, 3, 3], None), (corrected([3, 9, 3, 3, None], 2), corrected([3, 9, 3, None, None], 2)))
+
+    def test_formats(self):
+        self.assertEqual((4, 36, 13), (Format(20, 4).codewords, Format(20, 4).body_size, Format(20, 4).capacity))
+
+    def test_turns(self):
+        self.assertEqual(([[3, 1], [4, 2]], [[2, 1], [4, 3]], 5, 3),
+                         (turned([[1, 2], [3, 4]], 1), turned([[1, 2], [3, 4]], 4), combined(4, 1), opposite(1)))
