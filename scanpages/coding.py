@@ -36,14 +36,14 @@ def restored(received, count):
 
 def corrected(received, count):
     """Returns the near codeword of a received list, or None if no codeword is near."""
+    # Most lists are hardly damaged; so what is found easily is tried first.
     simple = restored(received, count)
     if simple is None or _is_near(simple, received, count):
         return simple
-    poly = _nearest_polynomial(received, count)
+    poly = _near_polynomial(received, count)
     if poly is None:
         return None
-    codeword = [evaluate(poly, point) for point in range(len(received))]
-    return codeword if _is_near(codeword, received, count) else None
+    return [evaluate(poly, point) for point in range(len(received))]
 
 
 def extended(points, rows, targets):
@@ -87,13 +87,14 @@ def _is_near(codeword, received, count):
     return 2 * wrong + missing <= len(received) - count
 
 
-def _nearest_polynomial(received, count):
-    """Returns the polynomial of the near codeword if there is one; otherwise any polynomial, or None.
+def _near_polynomial(received, count):
+    """Returns the polynomial of the near codeword of a received list, or None if no codeword is near.
 
-    The polynomial through all entries and the one that is 0 at all their points are divided as for their greatest
-    common divisor. In each line of this, the rest is the factor times the first of the two at all these points. In the
-    first line with a rest of a low degree, the factor is 0 at the points of the wrong entries; so the rest divided by
-    the factor is the polynomial that is looked for.
+    The polynomial that is 0 at the points of all entries and the one through all entries are divided as for their
+    greatest common divisor. In each line of this, the rest has at these points the values of the factor times the
+    entries. In the first line in which the rest has a low degree, the factor has at most as many zeros as entries may
+    be wrong. If the rest is a low polynomial times the factor, this polynomial differs from the entries only at the
+    zeros of the factor; and if a codeword is near, its polynomial is found in this way.
     """
     points = [(at, entry) for at, entry in enumerate(received) if entry is not None]
     before = [1]
