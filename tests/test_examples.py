@@ -10,6 +10,7 @@ from scanpages.edits import diff, normalized, patch
 from scanpages.errors import AssemblySyntaxError, EncodingError, PackedError
 from scanpages.field import multiply
 from scanpages.formats import Format
+from scanpages.joining import joined_lists
 from scanpages.machine import run
 from scanpages.octets import number_octets, octets_text, read_number
 from scanpages.polynomials import divide, interpolate, multiply_polynomials
@@ -92,3 +93,6 @@ class ExamplesTest(unittest.TestCase):
     def test_turns(self):
         self.assertEqual(([[3, 1], [4, 2]], [[2, 1], [4, 3]], 5, 3),
                          (turned([[1, 2], [3, 4]], 1), turned([[1, 2], [3, 4]], 4), combined(4, 1), opposite(1)))
+
+    def test_joining(self):
+        self.assertEqual([[1, 4, 3, 2]], joined_lists([[[1, None, 5, 2]], [[1, 4, 3, 2]], [[0, None, None, 2]]]))
