@@ -1,11 +1,11 @@
 """Codewords: symbols with check symbols, by which wrong and missing symbols are corrected."""
 
 from scanpages.errors import InvalidSymbol
-from scanpages.field import PRODUCTS, SYMBOLS, inverse, is_symbol, multiply, plus_scaled
+from scanpages.field import PRODUCTS, inverse, is_symbol, multiply, plus_scaled
 from scanpages.polynomials import add_polynomials, divide, evaluate, interpolate, multiply_polynomials
 
-# A codeword has at most one symbol for each point.
-LONGEST = SYMBOLS
+# A codeword has at most one symbol for each point, and the points are the symbols.
+LONGEST = 16
 
 
 def encode(symbols, size):

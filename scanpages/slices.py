@@ -1,15 +1,14 @@
 """Slices: the pieces of the parts of an archive, and the bodies that carry them."""
 
 from scanpages.errors import InvalidArchive
-from scanpages.formats import HEAD_SYMBOLS
 from scanpages.labels import two_symbols, two_symbols_integer
 from scanpages.pages import check_body
 
 MOST_PARTS = 99
 MOST_SLICES = 255
 GREATEST_OCTET = 255
-# The integers of the head and the number of octets.
-HEAD_INTEGERS = HEAD_SYMBOLS // 2
+# A body begins with the four integers of the head.
+HEAD_INTEGERS = 4
 
 
 def is_octet(integer):
@@ -37,12 +36,12 @@ def body_slice(form, body):
     """Returns the pair of the head and the list of the octets of the slice with a body, or None if there is none."""
     check_body(form, body)
     integers = [two_symbols_integer(body[start:start + 2]) for start in range(0, len(body), 2)]
-    head = tuple(integers[:HEAD_INTEGERS - 1])
-    count = integers[HEAD_INTEGERS - 1]
-    end = HEAD_INTEGERS + count
-    if not _is_slice(form, head, count) or any(integer != 0 for integer in integers[end:]):
+    head = tuple(integers[:HEAD_INTEGERS])
+    count = integers[HEAD_INTEGERS]
+    rest = integers[HEAD_INTEGERS + 1:]
+    if not _is_slice(form, head, count) or any(integer != 0 for integer in rest[count:]):
         return None
-    return head, integers[HEAD_INTEGERS:end]
+    return head, rest[:count]
 
 
 def _is_slice(form, head, count):

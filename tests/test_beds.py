@@ -12,7 +12,7 @@ LENGTHS = (1, 2, 59, 60)
 NO_LENGTHS = (0, -1, 61, 62, 10 ** 20, -10 ** 5000)
 # A page for tests: no two turns of it are equal.
 SMALL = [[1, 0, 2], [1, 1, 0], [0, 0, 0]]
-NO_BEDS = ([], [[]], [[], []], [[0], []], [[0, 1], [0]], [[0], [0, 1]], [[0, 1], [0, 1], [0, 1, 2]], [[0]] * 61,
+NO_BEDS = ([], [[]], [[], []], [[0], []], [[0, 1], [0]], [[0], [0, 1]], [[0, 1], [0, 1], [0, 1, 2]], [[0, 1], [0, 1, 3]], [[0]] * 61,
            [[0] * 61], [[0] * 61 for _ in range(61)], [[0] * 60] * 61)
 
 
@@ -71,6 +71,9 @@ class LaidTest(ProgramTest):
                 self.raised(DoesNotFit, laid, SMALL, 1, height, width, height - 3, column)
         for height, width in ((2, 3), (3, 2), (1, 1), (2, 60)):
             self.raised(DoesNotFit, laid, SMALL, 0, height, width, 0, 0)
+        self.assertEqual([[0, 0], [0, 2]], laid([[2]], 0, 2, 2, 1, 1))
+        for row, column in ((-1, 0), (0, -1), (2, 0), (0, 2)):
+            self.raised(DoesNotFit, laid, [[2]], 0, 2, 2, row, column)
 
     def test_a_page_without_cells_fits_everywhere(self):
         for row, column in ((0, 0), (4, 5), (-7, 99)):

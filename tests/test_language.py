@@ -35,6 +35,7 @@ UNUSED_WORDS = re.compile(r"\b(typing|typing_extensions|enum|Enum|IntEnum|StrEnu
 STATEMENTS = (ast.FunctionDef, ast.ClassDef, ast.Return, ast.Delete, ast.Assign, ast.AugAssign, ast.AnnAssign, ast.For,
               ast.While, ast.If, ast.Raise, ast.Try, ast.Assert, ast.ImportFrom, ast.Nonlocal, ast.Expr, ast.Pass,
               ast.Break, ast.Continue, ast.With, ast.Match)
+CHANGING = set("append clear extend insert pop remove reverse setdefault update sort add discard".split())
 MODULE_STATEMENTS = (ast.ImportFrom, ast.FunctionDef, ast.ClassDef, ast.Assign)
 
 
@@ -135,6 +136,28 @@ class LanguageTest(unittest.TestCase):
             self.refuse([(path, node) for node in body if not isinstance(node, MODULE_STATEMENTS)])
             names = module_names(tree)
             self.assertEqual(sorted(set(names)), sorted(names), path.name)
+
+    def test_module_values(self):
+        for path, tree in TREES.items():
+            for node in tree.body:
+                if isinstance(node, ast.Assign):
+                    wrong = [part for part in ast.walk(node.value)
+                             if isinstance(part, (ast.Name, ast.BinOp, ast.Call, ast.Attribute, ast.Subscript))]
+                    self.refuse([(path, part) for part in wrong])
+
+    def test_properties(self):
+        names = {node.name for _, node in NODES if isinstance(node, ast.FunctionDef) and node.decorator_list}
+        self.assertTrue(names)
+        plain_names = {node.name for _, node in NODES if isinstance(node, ast.FunctionDef) and not node.decorator_list}
+        self.assertFalse(names & plain_names)
+        self.refuse([(path, node) for path, node in NODES if isinstance(node, ast.Attribute) and node.attr in names
+                     and not isinstance(node.ctx, ast.Load)])
+        for path, node in NODES:
+            if isinstance(node, ast.FunctionDef) and node.decorator_list:
+                self.refuse([(path, part) for part in ast.walk(node)
+                             if isinstance(part, (ast.AugAssign, ast.Delete, ast.Yield))
+                             or isinstance(part, ast.Attribute) and part.attr in CHANGING
+                             or isinstance(part, (ast.Attribute, ast.Subscript)) and isinstance(part.ctx, ast.Store)])
 
     def test_functions(self):
         for path, node in NODES:

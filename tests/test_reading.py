@@ -182,6 +182,24 @@ class FindTurnTest(ProgramTest):
                 self.assertIsNone(self.pure(find_turn, with_cells(rows, half)))
         self.assertGreater(seen, len(SIDES))
 
+    def test_any_marks(self):
+        chance = random.Random(8)
+        outcomes = set()
+        for side in SIDES:
+            ring = ring_cells(side, 1)
+            turns = [slow_turned(slow_empty_page(side), turn) for turn in range(8)]
+            for _ in range(150):
+                # So many cells are taken from the marks of several turns that some scores are nearly equal.
+                chosen = chance.sample(turns, chance.randrange(2, 5))
+                changes = [((row, column), chance.choice(chosen)[row][column]) for row, column in ring]
+                rows = with_cells([[chance.randrange(3)] * side for _ in range(side)], changes)
+                rows = with_cells(rows, [(place, 2) for place in chance.sample(ring, chance.randrange(len(ring)))])
+                scores = [sum(rows[row][column] == marks[row][column] for row, column in ring) for marks in turns]
+                expected = scores.index(max(scores)) if scores.count(max(scores)) == 1 else None
+                self.assertEqual(expected, find_turn(rows))
+                outcomes.add(expected)
+        self.assertEqual({None, *range(8)}, outcomes)
+
     def test_rings_of_one_colour(self):
         for side, cell in itertools.product(SIDES, (0, 1, 2)):
             self.assertIsNone(self.pure(find_turn, [[cell] * side for _ in range(side)]))
