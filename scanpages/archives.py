@@ -4,7 +4,9 @@ from scanpages.errors import InvalidArchive, TooManyPages
 from scanpages.formats import Format
 from scanpages.groups import check_bodies, complete
 from scanpages.joining import read_scans
-from scanpages.labels import GREATEST_ARCHIVE, MOST_PAGES, all_pages, check_label, group_count, group_pages, is_group
+from scanpages.labels import (
+    GREATEST_ARCHIVE, MOST_PAGES, all_pages, check_label, group_count, group_pages, is_group, page_label
+)
 from scanpages.pages import draw_page
 from scanpages.slices import MOST_PARTS, MOST_SLICES, body_slice, cut, is_octet, slice_body
 
@@ -50,8 +52,8 @@ def archive_pages(settings, parts):
     bodies = list(data)
     for start in range(0, len(data), settings.group):
         bodies.extend(check_bodies(data[start:start + settings.group], settings.checks))
-    tail = (len(data), settings.group, settings.checks)
-    return [((settings.archive, number, *tail), body) for number, body in enumerate(bodies)]
+    label = (settings.archive, 0, len(data), settings.group, settings.checks)
+    return [(page_label(label, number), body) for number, body in enumerate(bodies)]
 
 
 def _check_parts(parts):
@@ -77,31 +79,60 @@ def _data_bodies(form, parts):
 
 def put_together(form, archive, pairs):
     """Returns what is put together from pairs of a label and a body."""
-    own = [pair for pair in pairs if pair[0][0] == archive]
-    if own == []:
+    label, bodies = pages_there(archive, pairs)
+    if label is None:
         return Restored(None, 0, ())
-    label = own[0][0]
-    bodies = {}
-    for other, body in own:
-        if other[2:] == label[2:]:
-            bodies.setdefault(other[1], body)
     pages = check_label(label)
     missing = [number for number in range(pages) if number not in bodies]
-    return Restored(_whole_parts(_known_slices(form, _known_bodies(label, bodies))), pages, missing)
+    known = [body for _, data in _group_data(label, bodies) for body in data if body is not None]
+    return Restored(_whole_parts(_known_slices(form, known)), pages, missing)
 
 
-def _known_bodies(label, bodies):
-    """Returns the list of the bodies of the data pages that are there or can be computed, in ascending order.
+def pages_there(archive, pairs):
+    """Returns a label of an archive, and the dict of the bodies of its pages that are there, by their numbers.
 
-    The dict has the bodies of the pages that are there by their numbers.
+    The label is the one of the first pair of the archive, or None if there is no such pair.
+    """
+    label = None
+    bodies = {}
+    for other, body in pairs:
+        if other[0] != archive:
+            continue
+        if label is None:
+            label = other
+        if other[2:] == label[2:]:
+            bodies.setdefault(other[1], body)
+    return label, bodies
+
+
+def _group_data(label, bodies):
+    """Returns, for each group, the pair of the numbers of its pages and the list of the bodies of its data pages.
+
+    In the list stands None for each data page that is not there and cannot be computed.
     """
     _, _, data_pages, size, checks = label
-    known = []
+    found = []
     for group in range(group_count(data_pages, size)):
         numbers = group_pages(label, group)
-        data = complete([bodies.get(number) for number in numbers], len(numbers) - checks)
-        known.extend([body for body in data if body is not None])
-    return known
+        found.append((numbers, complete([bodies.get(number) for number in numbers], len(numbers) - checks)))
+    return found
+
+
+def all_bodies(label, bodies):
+    """Returns the dict of the bodies of the pages that are there or can be computed, by their numbers.
+
+    Where a group has enough pages, its check pages are computed from its data pages, also if they are there.
+    """
+    found = {}
+    for numbers, data in _group_data(label, bodies):
+        if None in data:
+            known = [bodies.get(number) for number in numbers]
+        else:
+            known = data + check_bodies(data, label[4])
+        for number, body in zip(numbers, known):
+            if body is not None:
+                found[number] = body
+    return found
 
 
 def _known_slices(form, bodies):

@@ -8,7 +8,7 @@ BLOCK = 1024
 
 def patch(old, script):
     """Returns the list that a script makes from the list old."""
-    _check_fit(script, len(old))
+    check_fit(script, len(old))
     new = []
     at = 0
     for kind, what in script:
@@ -45,7 +45,7 @@ def _made_by(step):
     return 0 if kind == "drop" else what
 
 
-def _check_fit(script, length):
+def check_fit(script, length):
     """Checks that a script fits an old list of this length."""
     if taken_items(script) != length:
         raise InvalidScript("the script takes more or fewer items than the list has")
@@ -173,7 +173,7 @@ def _gain_rows(block, new, carries):
 
 def inverted(old, script):
     """Returns the inverse of a script that fits the list old."""
-    _check_fit(script, len(old))
+    check_fit(script, len(old))
     steps = []
     at = 0
     for kind, what in script:
@@ -190,7 +190,7 @@ def inverted(old, script):
 
 def squashed(first, second):
     """Returns the script in normal form that does what the first and then the second script does."""
-    _check_fit(second, made_items(first))
+    check_fit(second, made_items(first))
     parts = _split(first, [_taken_by(step) for step in second])
     steps = []
     for step, part in zip(second, parts):

@@ -47,6 +47,12 @@ def check_label(label):
     return pages
 
 
+def page_label(label, page):
+    """Returns the label of a page of the archive of a label."""
+    archive, _, data_pages, size, checks = label
+    return archive, page, data_pages, size, checks
+
+
 def label_symbols(label):
     """Returns the list of the eight symbols of a label."""
     check_label(label)

@@ -16,10 +16,16 @@ def is_octet(integer):
     return 0 <= integer <= GREATEST_OCTET
 
 
+def slice_count(length, capacity):
+    """Returns the number of the slices of a part with so many octets."""
+    # A part without octets has one slice, too.
+    return max(1, (length + capacity - 1) // capacity)
+
+
 def cut(octets, capacity):
     """Returns the list of the slices of a part."""
-    # A part without octets has one slice, too.
-    return [octets[start:start + capacity] for start in range(0, max(1, len(octets)), capacity)]
+    starts = [number * capacity for number in range(slice_count(len(octets), capacity))]
+    return [octets[start:start + capacity] for start in starts]
 
 
 def slice_body(form, head, octets):

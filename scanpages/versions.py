@@ -40,6 +40,13 @@ class History:
         self.scripts = self.scripts[count:]
 
 
+def copied_history(history):
+    """Returns a history with the same versions, which can be changed without the other one."""
+    copied = History(history.first)
+    copied.scripts = history.scripts
+    return copied
+
+
 def encode_history(history):
     """Returns the list of the octets of a history."""
     octets = number_octets(len(history)) + number_octets(len(history.first))

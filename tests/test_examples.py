@@ -12,8 +12,10 @@ from scanpages.field import multiply
 from scanpages.formats import Format
 from scanpages.joining import joined_lists
 from scanpages.machine import run
+from scanpages.merging import merged
 from scanpages.octets import number_octets, octets_text, read_number
 from scanpages.polynomials import divide, interpolate, multiply_polynomials
+from scanpages.primer import read_primer, write_primer
 from scanpages.turns import combined, opposite, turned
 from scanpages.versions import History, decode_history, encode_history
 from scanpages.volumes import gathered, removed, volume_fault
@@ -96,3 +98,15 @@ class ExamplesTest(unittest.TestCase):
 
     def test_joining(self):
         self.assertEqual([[1, 4, 3, 2]], joined_lists([[[1, None, 5, 2]], [[1, 4, 3, 2]], [[0, None, None, 2]]]))
+
+    def test_primer(self):
+        text = write_primer(Format(20, 4), 7)
+        form, archive = read_primer(text)
+        self.assertEqual((20, 4, 7, "This archive has the number 7.", "10 jump target"),
+                         (form.side, form.checks, archive, text.split("\n")[0], text.split("\n")[-3]))
+
+    def test_merging(self):
+        first = [("keep", 1), ("add", (1,)), ("keep", 1)]
+        second = [("keep", 1), ("add", (2,)), ("keep", 1)]
+        self.assertEqual(([("keep", 1), ("add", (1, 2)), ("keep", 1)], [(1, (1,), (2,))]),
+                         merged([5, 6], first, second))

@@ -32,6 +32,11 @@ FUNCTIONS = {
     "groups": "check_bodies(bodies, checks) complete(bodies, count)",
     "archives": "archive_pages(settings, parts) put_together(form, archive, pairs) print_archive(settings, parts) "
                 "read_archive(form, archive, beds)",
+    "primer": "write_primer(form, archive) read_primer(text)",
+    "restoring": "publish(settings, contents) restore(primer, beds, limit)",
+    "collection": "catalogue(pairs) publish_collection(settings, pairs) open_collection(primer, beds, limit)",
+    "merging": "merged(old, first, second) rebased(old, script, over, later)",
+    "changes": "compare(first, second) apply_changes(volume, changes)",
 }
 # For each class its arguments, its methods and its properties.
 CLASSES = {
@@ -41,6 +46,10 @@ CLASSES = {
     ("formats", "Format"): ("(side, checks)", "", "data_symbols codewords body_size capacity"),
     ("archives", "Settings"): ("(form, archive, group, checks)", "", ""),
     ("archives", "Restored"): ("(parts, pages, missing)", "", "lost_parts"),
+    ("restoring", "Recovered"): ("(code, contents, lost, refused)", "", ""),
+    ("collection", "Opened"): ("(catalogue, histories, lost)", "", ""),
+    ("shelf", "Shelf"): ("(settings, parts)", "__len__(self) age(self, number, changes) swap(self, number, bed) "
+                                              "inspect(self) mend(self) restored(self)", ""),
 }
 
 

@@ -10,6 +10,7 @@ from scanpages.formats import Format
 from scanpages.labels import group_pages
 from scanpages.pages import draw_page, read_page
 from tests.paper import with_cells
+from tests.scans import scan_anyhow, torn_scans
 from tests.support import ProgramTest
 from tests.test_archives import octets_of
 from tests.test_beds import NO_BEDS
@@ -93,19 +94,13 @@ class PairsTest(ProgramTest):
 
 class ReadArchiveTest(ProgramTest):
 
-    def scan(self, chance, form, page):
-        """A bed on which a page lies anyhow."""
-        height, width = form.side + chance.randrange(9), form.side + chance.randrange(9)
-        return laid(page, chance.randrange(8), height, width, chance.randrange(height - form.side + 1),
-                    chance.randrange(width - form.side + 1))
-
     def test_scans_in_any_order(self):
         chance = random.Random(2)
         for form, (group, checks) in itertools.product(FORMS, ((1, 0), (1, 2), (3, 1), (5, 3))):
             settings = Settings(form, 9, group, checks)
             parts = random_parts(chance, form, 3)
             pages = print_archive(settings, parts)
-            beds = [self.scan(chance, form, page) for page in pages + chance.choices(pages, k=3)]
+            beds = [scan_anyhow(chance, form, page) for page in pages + chance.choices(pages, k=3)]
             chance.shuffle(beds)
             found = self.pure(read_archive, form, 9, beds)
             self.assertEqual((tuple(map(tuple, parts)), len(pages), ()), (found.parts, found.pages, found.missing))
@@ -123,17 +118,17 @@ class ReadArchiveTest(ProgramTest):
             for number in there:
                 if chance.randrange(3) == 0:
                     # Two torn scans of which each is partly readable, and which are read together.
-                    beds += [self.scan(chance, form, torn_from(form, pages[number], start)) for start in (0, 8)]
+                    beds += torn_scans(chance, form, pages[number])
                 else:
-                    beds.append(self.scan(chance, form, pages[number]))
+                    beds.append(scan_anyhow(chance, form, pages[number]))
             gone = [number for number in range(len(pages)) if number not in there]
-            beds += [self.scan(chance, form, torn_from(form, pages[number], 4)) for number in gone]
-            beds += [self.scan(chance, form, with_cells(pages[number], [((1, at), 2) for at in range(form.side)]
-                                                        + [((at, 1), 2) for at in range(form.side)]))
+            beds += [scan_anyhow(chance, form, torn_from(form, pages[number], 4)) for number in gone]
+            beds += [scan_anyhow(chance, form, with_cells(pages[number], [((1, at), 2) for at in range(form.side)]
+                                                          + [((at, 1), 2) for at in range(form.side)]))
                      for number in gone]
             beds += [[[0] * 30 for _ in range(30)], [[2]]]
             others = print_archive(Settings(form, 10, 2, 1), random_parts(chance, form, 2))
-            beds += [self.scan(chance, form, page) for page in others]
+            beds += [scan_anyhow(chance, form, page) for page in others]
             chance.shuffle(beds)
             found = self.pure(read_archive, form, 9, beds)
             self.assertEqual(expected_parts(settings, parts, there), found.parts)
@@ -144,11 +139,11 @@ class ReadArchiveTest(ProgramTest):
         form = FORMS[1]
         chance = random.Random(4)
         pages = [print_archive(Settings(form, 9, 1, 0), [[number]])[0] for number in range(2)]
-        beds = [self.scan(chance, form, page) for page in pages]
+        beds = [scan_anyhow(chance, form, page) for page in pages]
         self.assertEqual(((0,),), read_archive(form, 9, beds).parts)
         self.assertEqual(((1,),), read_archive(form, 9, beds[::-1]).parts)
         # A scan that is read comes before scans that are joined.
-        torn = [self.scan(chance, form, torn_from(form, pages[0], start)) for start in (0, 8)]
+        torn = torn_scans(chance, form, pages[0])
         self.assertEqual(((0,),), read_archive(form, 9, torn).parts)
         self.assertEqual(((1,),), read_archive(form, 9, [*torn, beds[1]]).parts)
 
