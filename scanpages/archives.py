@@ -4,9 +4,8 @@ from scanpages.errors import InvalidArchive, TooManyPages
 from scanpages.formats import Format
 from scanpages.groups import check_bodies, complete
 from scanpages.joining import read_scans
-from scanpages.labels import (
-    GREATEST_ARCHIVE, MOST_PAGES, all_pages, check_label, group_count, group_pages, is_group, page_label
-)
+from scanpages.labels import GREATEST_ARCHIVE, MOST_PAGES
+from scanpages.labels import all_pages, check_label, group_count, group_pages, is_group, page_label
 from scanpages.pages import draw_page
 from scanpages.slices import MOST_PARTS, MOST_SLICES, body_slice, cut, is_octet, slice_body
 

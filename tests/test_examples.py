@@ -3,6 +3,7 @@
 import unittest
 
 from scanpages.assembly import assemble, disassemble
+from scanpages.codecs import stored
 from scanpages.coding import corrected, encode
 from scanpages.compression import expand
 from scanpages.encoding import decode_volume, encode_volume
@@ -110,3 +111,6 @@ class ExamplesTest(unittest.TestCase):
         second = [("keep", 1), ("add", (2,)), ("keep", 1)]
         self.assertEqual(([("keep", 1), ("add", (1, 2)), ("keep", 1)], [(1, (1,), (2,))]),
                          merged([5, 6], first, second))
+
+    def test_codecs(self):
+        self.assertEqual([5, 2, 255], stored("steps", [5, 7, 6]))

@@ -37,6 +37,13 @@ FUNCTIONS = {
     "collection": "catalogue(pairs) publish_collection(settings, pairs) open_collection(primer, beds, limit)",
     "merging": "merged(old, first, second) rebased(old, script, over, later)",
     "changes": "compare(first, second) apply_changes(volume, changes)",
+    "index": "words(text) index_volume(volume) find(index, word)",
+    "pictures": "bed_picture(bed) picture_bed(text)",
+    "planning": "plan(form, sizes, losses)",
+    "codecs": "codec_code(name) stored(name, octets) publish_with(settings, name, contents)",
+    "reports": "report(form, archive, beds)",
+    "copying": "copy_pages(form, archive, beds) migrate(primer, beds, settings)",
+    "branches": "merge_histories(first, second)",
 }
 # For each class its arguments, its methods and its properties.
 CLASSES = {
@@ -71,6 +78,11 @@ class InterfaceTest(unittest.TestCase):
                 function = getattr(found, name)
                 self.assertEqual(found.__name__, function.__module__)
                 self.check_arguments(function, arguments)
+
+    def test_later_is_given_by_its_name_alone(self):
+        rebased = importlib.import_module("scanpages.merging").rebased
+        later = inspect.signature(rebased).parameters["later"]
+        self.assertEqual((inspect.Parameter.KEYWORD_ONLY, True), (later.kind, later.default))
 
     def test_classes(self):
         for (module, name), (arguments, methods, properties) in CLASSES.items():
